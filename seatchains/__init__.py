@@ -1,0 +1,1 @@
+"""Seatchains: seats for trips along a line."""
