@@ -109,7 +109,8 @@ class CreatedTest(ErrorCase):
         trips = (("ann", 0, FAR), ("bob", FAR - 1, FAR), ("carl", 10 ** 69, 10 ** 69 + 1))
         line = Line(20, trips)
         self.assertEqual((line.trips, line.order, line.peak), (trips, ("ann", "carl", "bob"), 2))
-        self.assertEqual([line.load(10 ** 69 - 1), line.load(10 ** 69), line.load(FAR - 1), line.load(FAR)], [1, 2, 2, 0])
+        stretches = (10 ** 69 - 1, 10 ** 69, FAR - 1, FAR)
+        self.assertEqual([line.load(station) for station in stretches], [1, 2, 2, 0])
 
     def test_names_of_all_lengths(self):
         trips = tuple(("abcdefgh"[:many], 0, 1) for many in range(1, 9))
@@ -238,8 +239,9 @@ class EqualityTest(ErrorCase):
 class TextTest(ErrorCase):
 
     def test_length_and_truth(self):
-        self.assertEqual([len(Line(2)), len(Line(2, (ANN,))), len(Line(2, TRIPS)), len(Line(1, TRIPS_24))], [0, 1, 3, 24])
-        self.assertEqual([bool(Line(2)), bool(Line(2, (ANN,))), bool(Line(1, TRIPS_24))], [False, True, True])
+        lines = [Line(2), Line(2, (ANN,)), Line(2, TRIPS), Line(1, TRIPS_24)]
+        self.assertEqual([len(line) for line in lines], [0, 1, 3, 24])
+        self.assertEqual([bool(line) for line in lines], [False, True, True, True])
 
     def test_text(self):
         self.assertEqual(str(Line(20)), "20")

@@ -13,8 +13,8 @@ ANN, BOB, CARL = ("ann", 4, 6), ("bob", 2, 5), ("carl", 3, 4)
 TRIPS = (ANN, BOB, CARL)
 
 # Texts that are not names.
-NOT_NAMES = ["", " ", "Ann", "aNn", "ANN", "ann ", " ann", "a n", "ann1", "1", "a-b", "a_b", "a.b", "ann\n", "\n", "'a'",
-             "abcdefghi", "a" * 24, "ann:4-6", "a:b", "`", "{", "a{", "`a", "@", "["]
+NOT_NAMES = ["", " ", "Ann", "aNn", "ANN", "ann ", " ann", "a n", "ann1", "1", "a-b", "a_b", "a.b", "ann\n", "\n",
+             "'a'", "abcdefghi", "a" * 24, "ann:4-6", "a:b", "`", "{", "a{", "`a", "@", "["]
 
 
 class MadeTest(ErrorCase):
@@ -86,7 +86,7 @@ class IsNameTest(ErrorCase):
             self.assertIs(found, worth)
 
     def test_names(self):
-        for name in ["a", "z", "ann", "abcdefgh", "zzzzzzzz", "none", *string.ascii_lowercase, string.ascii_lowercase[18:]]:
+        for name in ["ann", "abcdefgh", "zzzzzzzz", "none", *string.ascii_lowercase, string.ascii_lowercase[18:]]:
             self.check(name, True)
 
     def test_lengths(self):
@@ -104,7 +104,7 @@ class IsNameTest(ErrorCase):
                 self.check(text, worth)
 
     def test_values_of_any_kind(self):
-        for thing in [*NOT_TEXTS, Line(1), ["a"], ("a",), {"a": "a"}, {"a"}, list("ann"), tuple("ann"), bytearray(b"a")]:
+        for thing in [*NOT_TEXTS, Line(1), ["a"], ("a",), {"a": "a"}, {"a"}, list("ann"), bytearray(b"a")]:
             self.check(thing, False)
 
 
@@ -133,7 +133,8 @@ class AddedTest(ErrorCase):
 
     def test_what_the_new_line_tells(self):
         line = Line(2, (ANN, CARL)).added("bob", 2, 5)
-        self.assertEqual((line.capacity, line.order, line.peak, line.load(2), len(line)), (2, ("bob", "carl", "ann"), 2, 1, 3))
+        self.assertEqual((line.capacity, line.order, line.peak), (2, ("bob", "carl", "ann"), 2))
+        self.assertEqual((line.load(2), len(line)), (1, 3))
         self.assertEqual((type(line), type(line.trips), type(line.trips[1])), (Line, tuple, tuple))
 
     def test_a_full_stretch_is_no_hindrance(self):
