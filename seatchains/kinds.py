@@ -43,3 +43,13 @@ def number_written(word):
     if word[0] == "0" and len(word) > 1:
         return None
     return int(word)
+
+
+def is_seat(thing, seats):
+    """Return whether any value is one of so many seats."""
+    return is_integer(thing) and 1 <= thing <= seats
+
+
+def is_pair(thing):
+    """Return whether any value is a pair."""
+    return isinstance(thing, tuple) and len(thing) == 2

@@ -54,6 +54,13 @@ INNER = [*ODD, *deep(11)]
 NOT_TEXTS = [*ODD, *DEEP, ("ann", 0, 3), -1, 0, 1, 2, 3, FAR, -FAR]
 NOT_INTEGERS = [*ODD, *DEEP, ("ann", 0, 3), "", "0", "1", "2", "ann", "one", "-1"]
 
+# None of these is a pair of a name and a seat.
+NOT_PAIRS = [
+    *INNER, "", "ann", "a1", 0, 1, 2, FAR, ["ann", 1], ("ann", 1, 1), ("ann", 1, ()), (1, "ann"), (("ann", 1),),
+    (("ann",), 1), ("ann", (1,)), ("ann", [1]), ["ann", [1]], ("ann", "1"), ("ann", "bob"), (1, 1), (1, 2), {"ann": 1},
+    {"ann", 1}, *[(thing, 1) for thing in [*INNER, "", 0, 1]], *[("ann", thing) for thing in [*INNER, "", "1", "one"]],
+]
+
 NAMES_24 = tuple(string.ascii_lowercase[:24])
 TRIPS_24 = tuple((name, at, at + 2) for at, name in enumerate(NAMES_24))
 
@@ -68,6 +75,11 @@ class ErrorCase(unittest.TestCase):
         self.assertEqual(type(caught.exception), kind)
         for field, worth in fields.items():
             self.assert_same(getattr(caught.exception, field), worth)
+
+    def assert_errors(self, kind, field, rows, call, *args):
+        """The call with each value behind the arguments raises this error with what stands beside it in the field."""
+        for thing, worth in rows:
+            self.assert_error(kind, {field: worth}, call, *args, thing)
 
     def assert_same(self, found, worth):
         """The values are equal, and of the same kind: True is not 1."""
