@@ -27,5 +27,85 @@ class LinesExamplesTest(ErrorCase):
         self.assert_error(InvalidTrips, {"index": 1}, Line, 2, (("bob", 2, 5), ("ann", 4, 6)))
 
 
+class PlansExamplesTest(ErrorCase):
+
+    def test_first(self):
+        from seatchains.lines import Line
+        from seatchains.plans import all_plans, count, least_plan, number_of, overfull, plan_at
+        line = Line.read("2 ann:0-3 bob:2-5 carl:3-4")
+        self.assertEqual(
+            repr([count(line), least_plan(line), number_of(line, (("ann", 2), ("bob", 1), ("carl", 2))),
+                  list(all_plans(line)) == [plan_at(line, 0), plan_at(line, 1)]]),
+            "[2, (('ann', 1), ('bob', 2), ('carl', 1)), 1, True]")
+        self.assertIsNone(overfull(line))
+
+    def test_second(self):
+        from seatchains.lines import Line
+        from seatchains.plans import count, overfull
+        line = Line.read("1 ann:0-3 bob:2-5")
+        self.assertEqual(
+            repr([overfull(line), count(line), count(Line(20)), count(Line.read("20 ann:0-1000000 bob:5-6"))]),
+            "[2, 0, 1, 380]")
+
+    def test_third(self):
+        from seatchains.errors import InvalidPlan
+        from seatchains.lines import Line
+        from seatchains.plans import number_of
+        line = Line.read("2 ann:0-3 bob:2-5")
+        self.assert_error(InvalidPlan, {"index": 1}, number_of, line, (("ann", 2), ("bob", 2)))
+
+
+class ChainsExamplesTest(ErrorCase):
+
+    def test_first(self):
+        from seatchains.chains import chain, exchanged, follow, is_shift, route
+        from seatchains.lines import Line
+        line = Line.read("3 ann:0-3 bob:2-5 carl:3-4 dora:4-9")
+        plan = (("ann", 1), ("bob", 2), ("carl", 1), ("dora", 1))
+        goal = (("ann", 2), ("bob", 1), ("carl", 3), ("dora", 2))
+        self.assertEqual(
+            repr([chain(line, plan, "ann", 2), exchanged(line, plan, "carl", 3), is_shift(line, plan, "dora", 3),
+                  follow(line, plan, route(line, plan, goal)) == goal]),
+            "[('ann', 'bob', 'carl', 'dora'), (('ann', 1), ('bob', 2), ('carl', 3), ('dora', 1)), True, True]")
+
+
+class BookingExamplesTest(ErrorCase):
+
+    def test_first(self):
+        from seatchains.booking import book, full_stretch
+        from seatchains.chains import follow
+        from seatchains.lines import Line
+        line = Line.read("2 ann:0-2 bob:3-5")
+        plan = (("ann", 1), ("bob", 2))
+        later, exchanges, goal = book(line, plan, "carl", 1, 4)
+        self.assertEqual(
+            repr([str(later), len(exchanges) <= 2, follow(line, plan, exchanges) == goal[:2],
+                  full_stretch(later, 0, 9)]),
+            "['2 ann:0-2 bob:3-5 carl:1-4', True, True, 1]")
+
+    def test_second(self):
+        from seatchains.booking import book
+        from seatchains.errors import Full
+        from seatchains.lines import Line
+        self.assert_error(Full, {"station": 1}, book, Line.read("1 ann:0-2"), (("ann", 1),), "bob", 1, 4)
+
+
+class FixingExamplesTest(ErrorCase):
+
+    def test_first(self):
+        from seatchains.fixing import fixed_obstacle, fixed_plan
+        from seatchains.lines import Line
+        line = Line.read("2 ann:0-1 bob:1-2 carl:0-3")
+        word, stops = fixed_obstacle(line, (("ann", 1), ("bob", 2)))
+        self.assertEqual(repr([fixed_plan(line, (("ann", 1), ("bob", 2))), word, stops[0], 1 in stops]),
+                         "[None, 'cut', 0, False]")
+
+    def test_second(self):
+        from seatchains.fixing import fixed_plan
+        from seatchains.lines import Line
+        self.assertEqual(repr(fixed_plan(Line.read("2 ann:0-1 bob:1-2 carl:0-1"), (("ann", 1), ("bob", 2)))),
+                         "(('ann', 1), ('bob', 2), ('carl', 2))")
+
+
 if __name__ == "__main__":
     unittest.main()

@@ -1,0 +1,118 @@
+"""What holds of all functions: names, arguments, lines, and that nothing changes."""
+
+import importlib
+import inspect
+import unittest
+
+from seatchains.chains import follow, route
+from seatchains.errors import InvalidExchange, InvalidFixed, InvalidNumber, InvalidPlan, NotALine
+from seatchains.fixing import fixed_plan
+from seatchains.lines import Line
+from seatchains.plans import all_plans, count, is_plan, least_plan, number_of, overfull, plan_at
+from tests.samples import NOT_TEXTS, ErrorCase
+from tests.wrong import GOAL, LINE, NOT_LINES, PLAN
+
+# The functions of each file: their arguments, and values for all of these but the line.
+FUNCTIONS = {
+    "plans": {
+        "is_plan": ("line thing", PLAN), "overfull": ("line",), "count": ("line",), "least_plan": ("line",),
+        "plan_at": ("line number", 1), "number_of": ("line plan", GOAL), "all_plans": ("line",),
+    },
+    "chains": {
+        "chain": ("line plan name seat", PLAN, "ann", 2), "exchanged": ("line plan name seat", PLAN, "ann", 2),
+        "is_shift": ("line plan name seat", PLAN, "ann", 2), "route": ("line plan goal", PLAN, GOAL),
+        "follow": ("line plan exchanges", PLAN, (("ann", 2), ("bob", 2))),
+        "steps": ("line plan exchanges", PLAN, (("ann", 2), ("bob", 2))), "shortest": ("line plan goal", PLAN, GOAL),
+    },
+    "booking": {
+        "full_stretch": ("line start end", 1, 4), "book": ("line plan name start end", PLAN, "dora", 5, 7),
+    },
+    "fixing": {
+        "fixed_plan": ("line fixed", (("ann", 2),)), "fixed_obstacle": ("line fixed", (("ann", 2),)),
+    },
+}
+
+GENERATORS = ("all_plans", "steps")
+
+
+def rows():
+    """Each function with its name, the names of its arguments and values for them."""
+    for file, functions in FUNCTIONS.items():
+        for name, (arguments, *values) in functions.items():
+            yield file, name, getattr(importlib.import_module("seatchains." + file), name), arguments.split(), values
+
+
+def result(call, *args, **named):
+    """What the call returns, or the list of what it yields."""
+    found = call(*args, **named)
+    return list(found) if inspect.isgenerator(found) else found
+
+
+class InterfaceTest(ErrorCase):
+
+    def test_each_function_stands_in_its_file_with_its_arguments(self):
+        for file, name, call, arguments, _ in rows():
+            self.assertEqual([call.__module__, call.__name__], ["seatchains." + file, name])
+            parameters = inspect.signature(call).parameters.values()
+            self.assertEqual([each.name for each in parameters], arguments)
+            self.assertEqual({(each.kind, each.default) for each in parameters},
+                             {(inspect.Parameter.POSITIONAL_OR_KEYWORD, inspect.Parameter.empty)})
+
+    def test_generators(self):
+        for _, name, call, _, values in rows():
+            self.assertEqual(inspect.isgenerator(call(LINE, *values)), name in GENERATORS)
+
+    def test_by_position_and_by_name(self):
+        for _, _, call, arguments, values in rows():
+            whole = [LINE, *values]
+            named = dict(zip(arguments, whole))
+            for many in range(len(whole) + 1):
+                rest = {name: named[name] for name in arguments[many:][::-1]}
+                self.assertEqual(result(call, *whole[:many], **rest), result(call, *whole))
+
+    def test_the_same_call_returns_the_same_each_time(self):
+        for _, _, call, _, values in rows():
+            first = result(call, LINE, *values)
+            other = result(call, Line.read(str(LINE)), *values)
+            self.assertEqual([repr(other), repr(result(call, LINE, *values))], [repr(first)] * 2)
+
+    def test_nothing_changes(self):
+        for _, _, call, _, values in rows():
+            line = Line(2, LINE.trips)
+            before = repr(values)
+            result(call, line, *values)
+            self.assertEqual(repr(values), before)
+            self.assertEqual([str(line), line.order, line.peak], [str(LINE), LINE.order, LINE.peak])
+
+    def test_what_is_no_line(self):
+        for _, _, call, _, values in rows():
+            before = repr(result(call, LINE, *values))
+            for thing in NOT_LINES:
+                self.assert_error(NotALine, {"value": thing}, result, call, thing, *values)
+                self.assert_error(NotALine, {"value": thing}, result, call, thing, *[thing for _ in values])
+            self.assertEqual(repr(result(call, LINE, *values)), before)
+
+    def test_a_line_without_trips_is_a_line(self):
+        line = Line(3)
+        self.assertEqual(len(line), 0)
+        for call in (overfull, count, least_plan):
+            call(line)
+        self.assertEqual([is_plan(line, ()), is_plan(line, None), list(all_plans(line))], [True, False, [()]])
+
+    def test_lists_in_the_place_of_tuples(self):
+        self.assertIs(is_plan(LINE, list(PLAN)), False)
+        self.assert_error(InvalidPlan, {"index": None}, number_of, LINE, list(PLAN))
+        self.assert_error(InvalidPlan, {"index": 2}, number_of, LINE, PLAN[:2] + (list(PLAN[2]),))
+        self.assert_error(InvalidPlan, {"index": None}, route, LINE, PLAN, list(GOAL))
+        self.assert_error(InvalidExchange, {"index": None}, follow, LINE, PLAN, [])
+        self.assert_error(InvalidFixed, {"index": None}, fixed_plan, LINE, [])
+
+    def test_any_value_that_may_be_asked_about(self):
+        for thing in NOT_TEXTS:
+            self.assertIs(is_plan(LINE, thing), False)
+            if type(thing) is not int:
+                self.assert_error(InvalidNumber, {"number": thing}, plan_at, LINE, thing)
+
+
+if __name__ == "__main__":
+    unittest.main()
