@@ -65,17 +65,8 @@ def steps(line, plan, exchanges):
 def shortest(line, plan, goal):
     """Return the fewest exchanges that lead from the plan to the goal."""
     check_both(line, plan, goal)
-    total = count(line)
-    if total > FEW_PLANS:
-        raise TooManyPlans(total)
-    came = searched(line, plan, goal)
-    exchanges = []
-    step = came[goal]
-    while step is not None:
-        before, exchange = step
-        exchanges.append(exchange)
-        step = came[before]
-    return tuple(exchanges[::-1])
+    check_few_plans(line)
+    return way_to(searched(line, plan, goal, different_exchanges), goal)
 
 
 def check_exchange(line, plan, name, seat):
@@ -93,6 +84,13 @@ def check_both(line, plan, goal):
     check_line(line)
     check_plan(line, plan)
     check_plan(line, goal)
+
+
+def check_few_plans(line):
+    """Raise an error if the line has more plans than can be searched."""
+    total = count(line)
+    if total > FEW_PLANS:
+        raise TooManyPlans(total)
 
 
 def linked(neighbours, seats, name, seat):
@@ -135,22 +133,37 @@ def plans_after(line, plan, exchanges):
     return plans
 
 
-def searched(line, plan, goal):
-    """Return how each plan was reached, level by level until the goal: the plan before it, and the exchange."""
+def searched(line, plan, goal, moves):
+    """Return how each plan was reached, the nearest first, until the goal: the plan before it, and the exchange.
+
+    Where the goal is not reached, and if it is None, these are all plans that can be reached. `moves` is a function
+    that returns the exchanges to be made from a plan, given the line, the neighbours and the plan.
+    """
     neighbours = neighbours_of(line.trips)
     came = {plan: None}
     waiting = [plan]
     at = 0
-    while goal not in came:
+    while goal not in came and at < len(waiting):
         present = waiting[at]
-        for exchange in different_exchanges(line, neighbours, present):
-            name, seat = exchange
+        exchanges = moves(line, neighbours, present)
+        for name, seat in exchanges:
             later = moved(neighbours, present, name, seat)
             if later not in came:
-                came[later] = (present, exchange)
+                came[later] = (present, (name, seat))
                 waiting.append(later)
         at += 1
     return came
+
+
+def way_to(came, goal):
+    """Return the exchanges by which a search came to the plan."""
+    exchanges = []
+    step = came[goal]
+    while step is not None:
+        before, exchange = step
+        exchanges.append(exchange)
+        step = came[before]
+    return tuple(exchanges[::-1])
 
 
 def different_exchanges(line, neighbours, plan):

@@ -180,9 +180,76 @@ def stretched(line, places):
     return Line(line.capacity, tuple((name, places[start], places[end]) for name, start, end in line.trips))
 
 
-def far_places(rng, many):
-    """Stations of up to seventy digits, ascending."""
-    places = {0, 10 ** 70 - 1}
+def far_places(rng, many, digits=70):
+    """Stations of up to so many digits, ascending."""
+    places = {0, 10 ** digits - 1}
     while len(places) < many:
-        places.add(rng.randrange(10 ** rng.randint(1, 70)))
+        places.add(rng.randrange(10 ** rng.randint(1, digits)))
     return sorted(places)
+
+
+def is_free(line, plan, seat, start, end):
+    """Whether no trip with the seat passes a stretch from the one station to the other."""
+    seats = dict(plan)
+    return not any(seats[trip[0]] == seat and meet(trip, ("", start, end)) for trip in line.trips)
+
+
+def every_shift(line, plan):
+    return [(name, seat) for name, seat in every_exchange(line, plan) if chain_of(line, plan, name, seat) == {name}]
+
+
+def shift_distances(line, plan):
+    """For each plan to which shifts lead, how many lead to it from this one at the least."""
+    found = {plan: 0}
+    level = [plan]
+    while level:
+        below = []
+        for present in level:
+            for name, seat in every_shift(line, present):
+                later = tuple((each, seat if each == name else worn) for each, worn in present)
+                if later not in found:
+                    found[later] = found[present] + 1
+                    below.append(later)
+        level = below
+    return found
+
+
+def fewest_triples(line, plan, start, end):
+    """How few triples an itinerary has, or None: station by station, for stations near to each other."""
+    fewest = {start: 0}
+    for station in range(start, end):
+        if station in fewest:
+            for seat in range(1, line.capacity + 1):
+                for until in range(station + 1, end + 1):
+                    if is_free(line, plan, seat, station, until):
+                        fewest[until] = min(fewest.get(until, 999), fewest[station] + 1)
+    return fewest.get(end)
+
+
+def is_itinerary(line, plan, start, end, triples):
+    """Whether a tuple of triples of integers is an itinerary."""
+    stations = [start, *[until for _, _, until in triples]]
+    joined = all(since == before for (_, since, _), before in zip(triples, stations)) and stations[-1] == end
+    forward = all(since < until for _, since, until in triples)
+    changes = all(one[0] != two[0] for one, two in zip(triples, triples[1:]))
+    return joined and forward and changes and all(
+        1 <= seat <= line.capacity and is_free(line, plan, seat, since, until) for seat, since, until in triples)
+
+
+def are_blocks(line, plan, start, end, pairs):
+    """Whether pairs of integers are blocks of the way of a passenger."""
+    if list(pairs) != sorted(set(pairs)) or any(one[1] > two[0] + 1 for one, two in zip(pairs, pairs[1:])):
+        return False
+    return all(start <= first < last <= end for first, last in pairs) and not any(
+        is_free(line, plan, seat, *pair) for pair in pairs for seat in range(1, line.capacity + 1))
+
+
+def followers(line, plan):
+    """The set of the pairs that follow one another by the plan."""
+    seats = dict(plan)
+    pairs = set()
+    for name, _, end in line.trips:
+        later = [(row[1], row[0]) for row in line.trips if seats[row[0]] == seats[name] and row[1] >= end]
+        if later:
+            pairs.add((name, min(later)[1]))
+    return pairs
