@@ -1,5 +1,7 @@
-"""The examples of the document, as it shows them."""
+"""The examples of the document and of README.md, as they show them."""
 
+import doctest
+import pathlib
 import unittest
 
 from tests.samples import ErrorCase
@@ -105,6 +107,61 @@ class FixingExamplesTest(ErrorCase):
         from seatchains.lines import Line
         self.assertEqual(repr(fixed_plan(Line.read("2 ann:0-1 bob:1-2 carl:0-1"), (("ann", 1), ("bob", 2)))),
                          "(('ann', 1), ('bob', 2), ('carl', 2))")
+
+
+class ShiftingExamplesTest(ErrorCase):
+
+    def test_first(self):
+        from seatchains.lines import Line
+        from seatchains.shifting import free_seats, shifts, stuck
+        line = Line.read("2 ann:0-3 bob:2-5 carl:8-9")
+        plan = (("ann", 1), ("bob", 2), ("carl", 1))
+        self.assertEqual(
+            repr([free_seats(line, plan, "carl"), stuck(line, plan),
+                  shifts(line, plan, (("ann", 2), ("bob", 1), ("carl", 1)))]),
+            "[(2,), ('ann', 'bob'), None]")
+
+    def test_second(self):
+        from seatchains.lines import Line
+        from seatchains.shifting import shifts, stuck
+        line = Line.read("3 ann:0-3 bob:2-5")
+        plan = (("ann", 1), ("bob", 2))
+        self.assertEqual(repr([len(shifts(line, plan, (("ann", 2), ("bob", 1)))), stuck(line, plan)]), "[3, ()]")
+
+
+class ChangingExamplesTest(ErrorCase):
+
+    def test_first(self):
+        from seatchains.changing import blocks, itinerary
+        from seatchains.lines import Line
+        line = Line.read("2 ann:0-3 bob:3-6 carl:7-8")
+        plan = (("ann", 1), ("bob", 2), ("carl", 2))
+        self.assertEqual(
+            repr([itinerary(line, plan, 1, 9), len(blocks(line, plan, 1, 9)), itinerary(line, plan, 3, 9)]),
+            "[((2, 1, 3), (1, 3, 9)), 1, ((1, 3, 9),)]")
+
+
+class FollowingExamplesTest(ErrorCase):
+
+    def test_first(self):
+        from seatchains.following import always_follows, follows
+        from seatchains.lines import Line
+        line = Line.read("2 ann:0-3 bob:1-9 carl:5-7 dora:9-10")
+        self.assertEqual(
+            repr([always_follows(line), follows(line, (("ann", 1), ("bob", 2), ("carl", 1), ("dora", 2)))]),
+            "[(('ann', 'carl'),), (('ann', 'carl'), ('bob', 'dora'))]")
+
+
+class ReadmeTest(unittest.TestCase):
+
+    def test_examples(self):
+        text = (pathlib.Path(__file__).parent.parent / "README.md").read_text().replace("```", "")
+        examples = doctest.DocTestParser().get_doctest(text, {}, "README.md", None, 0)
+        told = []
+        runner = doctest.DocTestRunner(verbose=False)
+        runner.run(examples, out=told.append)
+        self.assertGreater(runner.tries, 20)
+        self.assertEqual("".join(told), "")
 
 
 if __name__ == "__main__":

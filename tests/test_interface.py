@@ -30,6 +30,16 @@ FUNCTIONS = {
     "fixing": {
         "fixed_plan": ("line fixed", (("ann", 2),)), "fixed_obstacle": ("line fixed", (("ann", 2),)),
     },
+    "shifting": {
+        "free_seats": ("line plan name", PLAN, "ann"), "shifts": ("line plan goal", PLAN, PLAN),
+        "stuck": ("line plan", PLAN),
+    },
+    "changing": {
+        "itinerary": ("line plan start end", PLAN, 4, 9), "blocks": ("line plan start end", PLAN, 4, 9),
+    },
+    "following": {
+        "follows": ("line plan", PLAN), "always_follows": ("line",),
+    },
 }
 
 GENERATORS = ("all_plans", "steps")
