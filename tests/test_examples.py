@@ -152,6 +152,60 @@ class FollowingExamplesTest(ErrorCase):
             "[(('ann', 'carl'),), (('ann', 'carl'), ('bob', 'dora'))]")
 
 
+class DeskExamplesTest(ErrorCase):
+
+    def test_first(self):
+        from seatchains.desk import Desk
+        desk = Desk(2)
+        plans = [desk.book("ann", 0, 2), desk.book("bob", 1, 5), desk.book("carl", 2, 4)]
+        self.assertEqual(
+            repr([plans[2][0][1] == plans[2][2][1], len(desk.line), desk.undo(), repr(desk), desk.history()]),
+            "[True, 3, ('book', 'carl', 2, 4), 'Desk(2 seats, 2 trips)', "
+            "(('book', 'ann', 0, 2), ('book', 'bob', 1, 5))]")
+
+    def test_second(self):
+        from seatchains.desk import Desk
+        desk = Desk(2)
+        plan = desk.do_all((("book", "ann", 0, 2), ("book", "bob", 1, 5), ("seats", 4), ("shift", "ann", 4)))
+        self.assertEqual(repr([dict(plan)["ann"], desk.seats, desk.attempts, desk.busy]), "[4, 4, 1, False]")
+
+    def test_third(self):
+        from seatchains.desk import Desk
+        from seatchains.errors import Overfull
+        desk = Desk(2)
+        desk.do_all((("book", "ann", 0, 2), ("book", "bob", 1, 5)))
+        self.assert_error(Overfull, {"station": 1}, desk.resize, 1)
+
+
+class CertificatesExamplesTest(ErrorCase):
+
+    def test_first(self):
+        from seatchains.certificates import certify_fixed, certify_plan
+        from seatchains.checker import accepts
+        from seatchains.lines import Line
+        line = Line.read("2 ann:0-1 bob:1-2 carl:0-3")
+        claim, certificate = certify_fixed(line, (("ann", 1), ("bob", 2)))
+        self.assertEqual(
+            repr([claim[0], accepts(claim, certificate), accepts(claim, ("cut", (0, 3))),
+                  accepts(claim, ("cut", (0,))), certify_plan(Line.read("1 ann:0-3 bob:2-5"))]),
+            "['not fixed', True, True, False, (('no plan', 1, (('ann', 0, 3), ('bob', 2, 5))), 2)]")
+
+
+class ConsoleExamplesTest(ErrorCase):
+
+    def test_first(self):
+        from seatchains.console import Console
+        console = Console(2)
+        texts = [console.run("book ann 0 3"), console.run("shift ann 2"), console.run("count"), console.run("number")]
+        self.assertEqual(repr([texts, console.run("trip 1 9"), console.run("load 2"), console.run("undo")]),
+                         "[['ann=1', 'ann=2', '2', '1'], '1:1-9', '1', 'ann=1']")
+
+    def test_second(self):
+        from seatchains.console import Console
+        from seatchains.errors import InvalidCommand
+        self.assert_error(InvalidCommand, {"command": "book ann 0 03"}, Console(2).run, "book ann 0 03")
+
+
 class ReadmeTest(unittest.TestCase):
 
     def test_examples(self):

@@ -5,6 +5,7 @@ import inspect
 import unittest
 
 from seatchains.chains import follow, route
+from seatchains.checker import accepts
 from seatchains.errors import InvalidExchange, InvalidFixed, InvalidNumber, InvalidPlan, NotALine
 from seatchains.fixing import fixed_plan
 from seatchains.lines import Line
@@ -40,6 +41,27 @@ FUNCTIONS = {
     "following": {
         "follows": ("line plan", PLAN), "always_follows": ("line",),
     },
+    "certificates": {
+        "certify_plan": ("line",), "certify_route": ("line plan goal", PLAN, GOAL),
+        "certify_fixed": ("line fixed", (("ann", 2),)), "certify_number": ("line plan", GOAL),
+        "certify_changes": ("line plan start end", PLAN, 4, 9),
+    },
+}
+
+# The methods of each class with their arguments as they are written, and the properties.
+CLASSES = {
+    "lines": ("Line", {
+        "__init__": "(self, seats, trips=())", "load": "(self, station)", "walk": "(self)", "trip": "(self, name)",
+        "added": "(self, name, start, end)", "without": "(self, *names)", "is_name": "(thing)", "read": "(cls, text)",
+        "made": "(cls, seats, *trips)",
+    }, ["capacity", "trips", "order", "peak"]),
+    "desk": ("Desk", {
+        "__init__": "(self, seats)", "do": "(self, action)", "book": "(self, name, start, end)",
+        "cancel": "(self, name)", "exchange": "(self, name, seat)", "shift": "(self, name, seat)",
+        "resize": "(self, seats)", "do_all": "(self, actions, *, observer=None)", "undo": "(self)",
+        "history": "(self)",
+    }, ["line", "plan", "seats", "busy", "attempts"]),
+    "console": ("Console", {"__init__": "(self, seats)", "run": "(self, command)"}, []),
 }
 
 GENERATORS = ("all_plans", "steps")
@@ -67,6 +89,22 @@ class InterfaceTest(ErrorCase):
             self.assertEqual([each.name for each in parameters], arguments)
             self.assertEqual({(each.kind, each.default) for each in parameters},
                              {(inspect.Parameter.POSITIONAL_OR_KEYWORD, inspect.Parameter.empty)})
+
+    def test_each_class_stands_in_its_file_with_its_methods(self):
+        for file, (name, methods, properties) in CLASSES.items():
+            kind = getattr(importlib.import_module("seatchains." + file), name)
+            self.assertEqual([kind.__module__, kind.__name__], ["seatchains." + file, name])
+            for method, arguments in methods.items():
+                # A class or static method holds its function.
+                found = vars(kind)[method]
+                self.assertEqual(str(inspect.signature(getattr(found, "__func__", found))), arguments, method)
+            for each in properties:
+                self.assertIs(type(vars(kind)[each]), property)
+                self.assertEqual(vars(kind)[each].fset is not None, each == "seats")
+
+    def test_the_checker(self):
+        self.assertEqual([accepts.__module__, str(inspect.signature(accepts))],
+                         ["seatchains.checker", "(claim, certificate)"])
 
     def test_generators(self):
         for _, name, call, _, values in rows():
